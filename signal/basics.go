@@ -4,6 +4,7 @@ import (
 	"math"
 
 	"woofer/api"
+	"woofer/common"
 )
 
 // The permutation's generator: its keys are from 1 to modulus - 1.
@@ -14,7 +15,7 @@ const (
 
 // IsName reports whether a string is a name.
 func IsName(s string) bool {
-	if !within(len(s), 1, api.MaxName) {
+	if !common.Within(len(s), 1, api.MaxName) {
 		return false
 	}
 	for i, c := range s {
@@ -26,18 +27,18 @@ func IsName(s string) bool {
 }
 
 func isLetter(c rune) bool {
-	return within(c, 'A', 'Z') || within(c, 'a', 'z')
+	return common.Within(c, 'A', 'Z') || common.Within(c, 'a', 'z')
 }
 
 func isDigit(c rune) bool {
-	return within(c, '0', '9')
+	return common.Within(c, '0', '9')
 }
 
 // Draw returns the permutation of n elements by a key.
 func Draw(key, n int) ([]int, api.Errno) {
-	e := first(
-		when(!within(key, 1, modulus-1), api.ErrRange),
-		when(!within(n, 0, api.MaxList), api.ErrRange),
+	e := common.First(
+		common.CheckRange(key, 1, modulus-1),
+		common.CheckRange(n, 0, api.MaxList),
 	)
 	if e != api.OK {
 		return nil, e
@@ -57,19 +58,10 @@ func Draw(key, n int) ([]int, api.Errno) {
 
 // CheckRatio returns the error of a ratio, or OK.
 func CheckRatio(x api.Ratio) api.Errno {
-	if !within(x.Num, -api.MaxNumber, api.MaxNumber) || !within(x.Den, 1, api.MaxNumber) {
+	if !common.Within(x.Num, -api.MaxNumber, api.MaxNumber) || !common.Within(x.Den, 1, api.MaxNumber) {
 		return api.ErrRange
 	}
-	return when(lowest(x) != x, api.ErrForm)
-}
-
-// lowest returns a ratio whose denominator is above 0 in lowest terms.
-func lowest(x api.Ratio) api.Ratio {
-	a, b := x.Den, max(x.Num, -x.Num)
-	for b != 0 {
-		a, b = b, a%b
-	}
-	return api.Ratio{Num: x.Num / a, Den: x.Den / a}
+	return common.When(common.Lowest(x) != x, api.ErrForm)
 }
 
 // CheckSample returns the error of a sample, or OK.
@@ -83,7 +75,7 @@ func checkSteps(x float32, most float64) api.Errno {
 	if math.IsNaN(v) || math.IsInf(v, 0) {
 		return api.ErrForm
 	}
-	return when(!within(v, -most, most) || v*steps != math.Trunc(v*steps), api.ErrRange)
+	return common.When(!common.Within(v, -most, most) || v*steps != math.Trunc(v*steps), api.ErrRange)
 }
 
 // checkSamples returns the first error of samples, or OK.
@@ -104,13 +96,13 @@ search:
 
 // CheckRecord returns the first error of a record, or OK.
 func CheckRecord(r Record) api.Errno {
-	return first(checkHead(r.Name, r.Rate), checkSamples(r.Samples))
+	return common.First(checkHead(r.Name, r.Rate), checkSamples(r.Samples))
 }
 
 // checkHead returns the first error of the name and the rate of a record, or OK.
 func checkHead(name string, rate int) api.Errno {
-	return first(
-		when(!IsName(name), api.ErrName),
-		when(!within(rate, 1, MaxRate), api.ErrRange),
+	return common.First(
+		common.When(!IsName(name), api.ErrName),
+		common.CheckRange(rate, 1, MaxRate),
 	)
 }

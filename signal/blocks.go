@@ -2,6 +2,7 @@ package signal
 
 import (
 	"woofer/api"
+	"woofer/common"
 )
 
 // maxPart is the greatest part of a spectrum: four samples may add up to it.
@@ -56,7 +57,7 @@ func turned(values [Size]complex64, turn int) [Size]complex64 {
 // checkValue returns the error of a value of a spectrum, or OK.
 func checkValue(z complex64) api.Errno {
 	re, im := checkSteps(real(z), maxPart), checkSteps(imag(z), maxPart)
-	return first(when(im == api.ErrForm, im), re, im)
+	return common.First(common.When(im == api.ErrForm, im), re, im)
 }
 
 // Energy returns the sum of the squares of samples.

@@ -4,12 +4,13 @@ import (
 	"math"
 
 	"woofer/api"
+	"woofer/common"
 )
 
 // Cut returns a part of a record.
 func Cut(r Record, from, to int) (Record, api.Errno) {
 	outside := from < 0 || from > to || to > len(r.Samples)
-	e := first(CheckRecord(r), when(outside, api.ErrSpan))
+	e := common.First(CheckRecord(r), common.When(outside, api.ErrSpan))
 	if e != api.OK {
 		return Record{}, e
 	}
@@ -18,11 +19,11 @@ func Cut(r Record, from, to int) (Record, api.Errno) {
 
 // Append returns a record with another one behind it.
 func Append(a, b Record) (Record, api.Errno) {
-	e := first(
+	e := common.First(
 		CheckRecord(a),
 		CheckRecord(b),
-		when(a.Name != b.Name || a.Rate != b.Rate, api.ErrConflict),
-		when(len(a.Samples)+len(b.Samples) > api.MaxLength, api.ErrMany),
+		common.When(a.Name != b.Name || a.Rate != b.Rate, api.ErrConflict),
+		common.When(len(a.Samples)+len(b.Samples) > api.MaxLength, api.ErrMany),
 	)
 	if e != api.OK {
 		return Record{}, e
@@ -32,11 +33,11 @@ func Append(a, b Record) (Record, api.Errno) {
 
 // Mix returns the sum of two records.
 func Mix(a, b Record) (Record, api.Errno) {
-	e := first(
+	e := common.First(
 		CheckRecord(a),
 		CheckRecord(b),
-		when(a.Rate != b.Rate, api.ErrConflict),
-		when(len(a.Samples) != len(b.Samples), api.ErrShape),
+		common.When(a.Rate != b.Rate, api.ErrConflict),
+		common.When(len(a.Samples) != len(b.Samples), api.ErrShape),
 	)
 	if e != api.OK {
 		return Record{}, e
@@ -50,7 +51,7 @@ func Mix(a, b Record) (Record, api.Errno) {
 
 // Scale returns a record times a power of two.
 func Scale(r Record, shift int) (Record, api.Errno) {
-	e := first(CheckRecord(r), when(!within(shift, -MaxShift, MaxShift), api.ErrRange))
+	e := common.First(CheckRecord(r), common.CheckRange(shift, -MaxShift, MaxShift))
 	if e != api.OK {
 		return Record{}, e
 	}
@@ -64,10 +65,10 @@ func Scale(r Record, shift int) (Record, api.Errno) {
 
 // Delay returns a record behind so many zeros.
 func Delay(r Record, n int) (Record, api.Errno) {
-	e := first(
+	e := common.First(
 		CheckRecord(r),
-		when(!within(n, 0, api.MaxLength), api.ErrRange),
-		when(n > api.MaxLength-len(r.Samples), api.ErrMany),
+		common.CheckRange(n, 0, api.MaxLength),
+		common.When(n > api.MaxLength-len(r.Samples), api.ErrMany),
 	)
 	if e != api.OK {
 		return Record{}, e

@@ -6,6 +6,7 @@ import (
 	"slices"
 
 	"woofer/api"
+	"woofer/common"
 )
 
 // CheckSequence returns the first error of a sequence, or OK.
@@ -13,20 +14,20 @@ func CheckSequence(l []int) api.Errno {
 	if len(l) > api.MaxLength {
 		return api.ErrMany
 	}
-	return when(slices.ContainsFunc(l, isBeyond), api.ErrRange)
+	return common.When(slices.ContainsFunc(l, isBeyond), api.ErrRange)
 }
 
 // isBeyond reports whether an integer is none of a sequence.
 func isBeyond(x int) bool {
-	return !within(x, -MaxLevel, MaxLevel)
+	return !common.Within(x, -MaxLevel, MaxLevel)
 }
 
 // Convolve returns the convolution of two sequences.
 func Convolve(a, b []int) ([]int, api.Errno) {
-	e := first(
+	e := common.First(
 		CheckSequence(a),
 		CheckSequence(b),
-		when(len(a)+len(b)-1 > api.MaxLength, api.ErrMany),
+		common.When(len(a)+len(b)-1 > api.MaxLength, api.ErrMany),
 	)
 	if e != api.OK {
 		return nil, e
@@ -84,7 +85,7 @@ func Pair(n int) ([]int, []int, api.Errno) {
 		if len(a) == n {
 			return a, b, api.OK
 		}
-		opposites := mapped(b, func(x int) int { return -x })
+		opposites := common.Mapped(b, func(x int) int { return -x })
 		a, b = slices.Concat(a, b), slices.Concat(a, opposites)
 	}
 	return nil, nil, api.ErrRange
@@ -92,7 +93,7 @@ func Pair(n int) ([]int, []int, api.Errno) {
 
 // Complementary reports whether two sequences are complementary.
 func Complementary(a, b []int) (bool, api.Errno) {
-	if e := first(CheckSequence(a), CheckSequence(b)); e != api.OK {
+	if e := common.First(CheckSequence(a), CheckSequence(b)); e != api.OK {
 		return false, e
 	}
 	if len(a) == 0 || len(a) != len(b) {
@@ -114,15 +115,15 @@ func Sequence(r Record) ([]int, api.Errno) {
 	if e := CheckRecord(r); e != api.OK {
 		return nil, e
 	}
-	return mapped(r.Samples, inSteps), api.OK
+	return common.Mapped(r.Samples, inSteps), api.OK
 }
 
 // OfSequence returns the record of integers.
 func OfSequence(name string, rate int, l []int) (Record, api.Errno) {
-	if e := first(checkHead(name, rate), CheckSequence(l)); e != api.OK {
+	if e := common.First(checkHead(name, rate), CheckSequence(l)); e != api.OK {
 		return Record{}, e
 	}
-	return checked(Record{Name: name, Rate: rate, Samples: mapped(l, ofSteps)})
+	return checked(Record{Name: name, Rate: rate, Samples: common.Mapped(l, ofSteps)})
 }
 
 // inSteps returns a sample times 16.

@@ -1,12 +1,6 @@
 // Package signal is layer 1: see shared/doc/01-signal.md.
 package signal
 
-import (
-	"cmp"
-
-	"woofer/api"
-)
-
 // Limits of records and sequences.
 const (
 	MaxRate  = 192000
@@ -31,35 +25,3 @@ type Block [Size]float32
 
 // Spectrum is the transform of a block.
 type Spectrum [Size]complex64
-
-// first returns the first error of a list that is in the order of a chapter, or OK.
-func first(list ...api.Errno) api.Errno {
-	for _, e := range list {
-		if e != api.OK {
-			return e
-		}
-	}
-	return api.OK
-}
-
-// when returns e if it applies, else OK.
-func when(applies bool, e api.Errno) api.Errno {
-	if applies {
-		return e
-	}
-	return api.OK
-}
-
-// within is false for NaN.
-func within[T cmp.Ordered](x, least, most T) bool {
-	return least <= x && x <= most
-}
-
-// mapped returns the results of f for the elements of a list.
-func mapped[A, B any](list []A, f func(A) B) []B {
-	out := make([]B, len(list))
-	for i, x := range list {
-		out[i] = f(x)
-	}
-	return out
-}

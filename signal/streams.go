@@ -5,6 +5,7 @@ import (
 	"math"
 
 	"woofer/api"
+	"woofer/common"
 )
 
 // The form of a stream.
@@ -59,10 +60,10 @@ func readWord(s []byte) uint32 {
 
 // Decode returns the record of a stream.
 func Decode(s []byte) (Record, api.Errno) {
-	e := first(
-		when(len(s) > api.MaxStream, api.ErrLong),
-		when(len(s) < markSize, api.ErrTorn),
-		when(!bytes.HasPrefix(s, []byte(mark)), api.ErrForm),
+	e := common.First(
+		common.When(len(s) > api.MaxStream, api.ErrLong),
+		common.When(len(s) < markSize, api.ErrTorn),
+		common.When(!bytes.HasPrefix(s, []byte(mark)), api.ErrForm),
 	)
 	if e != api.OK {
 		return Record{}, e
@@ -84,9 +85,9 @@ func Decode(s []byte) (Record, api.Errno) {
 
 // readSamples returns the samples of exactly so many words.
 func readSamples(s []byte, count int) ([]float32, api.Errno) {
-	e := first(
-		when(len(s) < count*wordSize, api.ErrTorn),
-		when(len(s) > count*wordSize, api.ErrShape),
+	e := common.First(
+		common.When(len(s) < count*wordSize, api.ErrTorn),
+		common.When(len(s) > count*wordSize, api.ErrShape),
 	)
 	if e != api.OK {
 		return nil, e

@@ -5,6 +5,7 @@ import (
 	"strings"
 
 	"woofer/api"
+	"woofer/common"
 )
 
 // keyword is the first word of the text of a record.
@@ -67,49 +68,23 @@ func readLine(r *Record, index int, text string) bool {
 	if index == 0 {
 		read = readHead
 	}
-	l := &line{words: strings.Split(text, " ")}
-	ok := read(r, l.next)
-	return ok && len(l.words) == 0
+	words := common.Split(text, " ")
+	ok := read(r, words.Next)
+	return ok && words.Ended()
 }
 
 // readHead reads the words of the line 0.
 func readHead(r *Record, next func() string) bool {
 	begin := next()
 	r.Name = next()
-	rate, ok := integer(next())
+	rate, ok := common.Natural(next())
 	r.Rate = rate
-	// An integer has a sign only if it is below 0.
-	return begin == keyword && r.Name != "" && ok && rate >= 0
+	return begin == keyword && r.Name != "" && ok
 }
 
 // readSample reads the word of any other line.
 func readSample(r *Record, next func() string) bool {
-	n, ok := integer(next())
+	n, ok := common.Integer(next())
 	r.Samples = append(r.Samples, ofSteps(n))
 	return ok
-}
-
-// line has the words of a line that are not yet taken.
-type line struct {
-	words []string
-}
-
-// next takes the next word, or the empty string, which is no word, behind the last one.
-func (l *line) next() string {
-	if len(l.words) == 0 {
-		return ""
-	}
-	word := l.words[0]
-	l.words = l.words[1:]
-	return word
-}
-
-// integer returns the integer of a word, and whether the word is one.
-func integer(word string) (int, bool) {
-	n, err := strconv.Atoi(word)
-	// Leading zeros, a plus sign and -0 do not come back; more than 9 digits are beyond MaxNumber.
-	if err != nil || strconv.Itoa(n) != word || !within(n, -api.MaxNumber, api.MaxNumber) {
-		return 0, false
-	}
-	return n, true
 }

@@ -1,0 +1,130 @@
+package common_test
+
+import (
+	"math"
+	"slices"
+	"testing"
+
+	"woofer/api"
+	"woofer/common"
+)
+
+// equal compares a result with the expected one.
+func equal[T comparable](t *testing.T, what string, got, wanted T) {
+	t.Helper()
+	if got != wanted {
+		t.Errorf("%s: got %v, want %v", what, got, wanted)
+	}
+}
+
+func TestErrors(t *testing.T) {
+	equal(t, "no error", common.First(), api.OK)
+	equal(t, "only OK", common.First(api.OK, api.OK), api.OK)
+	equal(t, "two errors", common.First(api.OK, api.ErrZero, api.ErrForm), api.ErrZero)
+	equal(t, "it applies", common.When(true, api.ErrForm), api.ErrForm)
+	equal(t, "it does not", common.When(false, api.ErrForm), api.OK)
+	for _, x := range []struct {
+		n int
+		e api.Errno
+	}{{1, api.ErrRange}, {2, api.OK}, {3, api.OK}, {4, api.ErrRange}, {math.MinInt, api.ErrRange}, {math.MaxInt, api.ErrRange}} {
+		equal(t, "CheckRange", common.CheckRange(x.n, 2, 3), x.e)
+		equal(t, "Within", common.Within(x.n, 2, 3), x.e == api.OK)
+	}
+	equal(t, "NaN", common.Within(math.NaN(), -1, 1), false)
+}
+
+func TestMapped(t *testing.T) {
+	double := func(n int) float64 { return 2 * float64(n) }
+	equal(t, "Mapped", slices.Equal(common.Mapped([]int{1, 2, -3}, double), []float64{2, 4, -6}), true)
+	equal(t, "Mapped of nothing", len(common.Mapped(nil, double)), 0)
+}
+
+func TestWords(t *testing.T) {
+	for _, x := range []struct {
+		text  string
+		words []string
+	}{
+		{"", []string{""}},
+		{"a", []string{"a"}},
+		{"a bc d", []string{"a", "bc", "d"}},
+		{" a  b ", []string{"", "a", "", "b", ""}},
+	} {
+		words := common.Split(x.text, " ")
+		for _, wanted := range x.words {
+			equal(t, "Ended", words.Ended(), false)
+			equal(t, "Next", words.Next(), wanted)
+		}
+		for range 3 {
+			equal(t, "Ended behind the last word", words.Ended(), true)
+			equal(t, "Next behind the last word", words.Next(), "")
+		}
+	}
+}
+
+func TestIntegers(t *testing.T) {
+	for _, x := range []struct {
+		word              string
+		n                 int
+		isInteger, isBare bool
+	}{
+		{"0", 0, true, true},
+		{"7", 7, true, true},
+		{"999999999", 999999999, true, true},
+		{"-1", -1, true, false},
+		{"-999999999", -999999999, true, false},
+		{"", 0, false, false},
+		{"-", 0, false, false},
+		{"-0", 0, false, false},
+		{"+1", 0, false, false},
+		{"01", 0, false, false},
+		{"-01", 0, false, false},
+		{"1 ", 0, false, false},
+		{"1_0", 0, false, false},
+		{"0x1", 0, false, false},
+		{"1000000000", 0, false, false},
+		{"-1000000000", 0, false, false},
+		{"99999999999999999999", 0, false, false},
+	} {
+		n, ok := common.Integer(x.word)
+		equal(t, "Integer of "+x.word, n, x.n)
+		equal(t, "Integer of "+x.word, ok, x.isInteger)
+		n, ok = common.Natural(x.word)
+		equal(t, "Natural of "+x.word, n, max(x.n, 0))
+		equal(t, "Natural of "+x.word, ok, x.isBare)
+	}
+}
+
+func TestGauss(t *testing.T) {
+	a, b := api.Gauss{Re: 2, Im: -3}, api.Gauss{Re: 5, Im: 7}
+	equal(t, "Plus", common.Plus(a, b), api.Gauss{Re: 7, Im: 4})
+	equal(t, "Minus", common.Minus(a, b), api.Gauss{Re: -3, Im: -10})
+	equal(t, "Times", common.Times(a, b), api.Gauss{Re: 31, Im: -1})
+	equal(t, "Conjugate", common.Conjugate(a), api.Gauss{Re: 2, Im: 3})
+	equal(t, "Square", common.Square(a), 13)
+}
+
+func TestRatios(t *testing.T) {
+	for _, x := range [][2]api.Ratio{
+		{{Num: 6, Den: 4}, {Num: 3, Den: 2}},
+		{{Num: -6, Den: 4}, {Num: -3, Den: 2}},
+		{{Num: 0, Den: 9}, {Num: 0, Den: 1}},
+		{{Num: 5, Den: 7}, {Num: 5, Den: 7}},
+		{{Num: 8, Den: 2}, {Num: 4, Den: 1}},
+	} {
+		equal(t, "Lowest", common.Lowest(x[0]), x[1])
+	}
+	const most = math.MaxInt
+	ascending := []api.Ratio{
+		{Num: 0, Den: 1}, {Num: 1, Den: most}, {Num: 1, Den: most - 1}, {Num: 1, Den: 2}, {Num: most - 2, Den: most - 1}, {Num: most - 1, Den: most},
+		{Num: 1, Den: 1}, {Num: most, Den: most - 1}, {Num: most, Den: 2}, {Num: most - 1, Den: 1}, {Num: most, Den: 1},
+	}
+	for i, x := range ascending {
+		for k, y := range ascending {
+			wanted := 0
+			if i != k {
+				wanted = (i - k) / max(i-k, k-i)
+			}
+			equal(t, "Compare", common.Compare(x, y), wanted)
+		}
+	}
+}

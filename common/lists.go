@@ -1,0 +1,10 @@
+package common
+
+// Mapped returns the results of f for the elements of a list.
+func Mapped[A, B any](list []A, f func(A) B) []B {
+	out := make([]B, len(list))
+	for i, x := range list {
+		out[i] = f(x)
+	}
+	return out
+}
