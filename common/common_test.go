@@ -39,6 +39,16 @@ func TestMapped(t *testing.T) {
 	equal(t, "Mapped of nothing", len(common.Mapped(nil, double)), 0)
 }
 
+func TestFiltered(t *testing.T) {
+	isEven := func(n int) bool { return n%2 == 0 }
+	equal(t, "Filtered", slices.Equal(common.Filtered([]int{4, 1, -2, 4, 3}, isEven), []int{4, -2, 4}), true)
+	equal(t, "Filtered of odd ones", len(common.Filtered([]int{1, 3}, isEven)), 0)
+	equal(t, "Filtered of nothing", len(common.Filtered(nil, isEven)), 0)
+	list := []int{1, 2}
+	common.Filtered(list, isEven)[0] = 9
+	equal(t, "the list behind a change of the result", slices.Equal(list, []int{1, 2}), true)
+}
+
 func TestWords(t *testing.T) {
 	for _, x := range []struct {
 		text  string

@@ -8,3 +8,14 @@ func Mapped[A, B any](list []A, f func(A) B) []B {
 	}
 	return out
 }
+
+// Filtered returns the elements of a list that are kept.
+func Filtered[T any](list []T, keep func(T) bool) []T {
+	var out []T
+	for _, x := range list {
+		if keep(x) {
+			out = append(out, x)
+		}
+	}
+	return out
+}
