@@ -3,6 +3,7 @@ package common_test
 import (
 	"math"
 	"slices"
+	"strconv"
 	"testing"
 
 	"woofer/api"
@@ -89,6 +90,13 @@ func TestIntegers(t *testing.T) {
 		{"01", 0, false, false},
 		{"-01", 0, false, false},
 		{"1 ", 0, false, false},
+		{"00", 0, false, false},
+		{"--1", 0, false, false},
+		{"-x", 0, false, false},
+		{"1-", 0, false, false},
+		{"0000000001", 0, false, false},
+		{"\u0661", 0, false, false},
+		{"1\xff", 0, false, false},
 		{"1_0", 0, false, false},
 		{"0x1", 0, false, false},
 		{"1000000000", 0, false, false},
@@ -101,6 +109,39 @@ func TestIntegers(t *testing.T) {
 		n, ok = common.Natural(x.word)
 		equal(t, "Natural of "+x.word, n, max(x.n, 0))
 		equal(t, "Natural of "+x.word, ok, x.isBare)
+	}
+}
+
+func TestLines(t *testing.T) {
+	equal(t, "Line", common.Line("a", "bc"), "a bc\n")
+	equal(t, "Line of one word", common.Line("a"), "a\n")
+	for _, x := range []struct {
+		text  string
+		words []string // each with the index of its line
+		count int
+		ok    bool
+	}{
+		{"", nil, 0, true},
+		{"\n", []string{"0", "0"}, 0, false},
+		{"a bc\n", []string{"0a", "0bc"}, 1, true},
+		{"a b\nc d\n", []string{"0a", "0b", "1c", "1d"}, 2, true},
+		{"a b", nil, 0, false},
+		{"a b\nc d", []string{"0a", "0b"}, 1, false},
+		{"a b\nc\nd e\n", []string{"0a", "0b", "1c", "1"}, 1, false},
+		{"a b\nc d e\nf g\n", []string{"0a", "0b", "1c", "1d"}, 1, false},
+		{"a \nb c\n", []string{"0a", "0"}, 0, false},
+		{"a b\n\n", []string{"0a", "0b", "1", "1"}, 1, false},
+	} {
+		var words []string
+		count, ok := common.ReadLines(x.text, func(i int, next func() string) bool {
+			first := next()
+			second := next()
+			words = append(words, strconv.Itoa(i)+first, strconv.Itoa(i)+second)
+			return first != "" && second != ""
+		})
+		equal(t, "lines of "+x.text, count, x.count)
+		equal(t, "lines of "+x.text, ok, x.ok)
+		equal(t, "words of "+x.text, slices.Equal(words, x.words), true)
 	}
 }
 

@@ -1,11 +1,6 @@
 package common
 
-import (
-	"strconv"
-	"strings"
-
-	"woofer/api"
-)
+import "strings"
 
 // Words has the words of a text that are not yet taken.
 type Words struct {
@@ -32,22 +27,31 @@ func (w *Words) Ended() bool {
 	return len(w.list) == 0
 }
 
-// Integer returns the integer of a word, and whether the word is one.
-func Integer(word string) (int, bool) {
-	n, err := strconv.Atoi(word)
-	// Leading zeros, a plus sign and -0 do not come back; more than 9 digits are beyond MaxNumber.
-	if err != nil || strconv.Itoa(n) != word || !Within(n, -api.MaxNumber, api.MaxNumber) {
+// maxDigits is the number of digits of MaxNumber.
+const maxDigits = 9
+
+// Natural returns the integer of a word without a sign, and whether the word is one.
+func Natural(word string) (int, bool) {
+	if !Within(len(word), 1, maxDigits) || len(word) > 1 && word[0] == '0' {
 		return 0, false
+	}
+	n := 0
+	for _, c := range word {
+		if !Within(c, '0', '9') {
+			return 0, false
+		}
+		n = 10*n + int(c-'0')
 	}
 	return n, true
 }
 
-// Natural returns the integer of a word without a sign, and whether the word is one.
-func Natural(word string) (int, bool) {
-	n, ok := Integer(word)
-	// An integer has a sign only if it is below 0.
-	if !ok || n < 0 {
-		return 0, false
+// Integer returns the integer of a word, and whether the word is one.
+func Integer(word string) (int, bool) {
+	digits, hasSign := strings.CutPrefix(word, "-")
+	n, ok := Natural(digits)
+	if !hasSign {
+		return n, ok
 	}
-	return n, true
+	// -0 is no integer.
+	return -n, ok && n != 0
 }

@@ -17,9 +17,9 @@ func Print(r Record) (string, api.Errno) {
 		return "", e
 	}
 	var b strings.Builder
-	b.WriteString(keyword + " " + r.Name + " " + strconv.Itoa(r.Rate) + "\n")
+	b.WriteString(common.Line(keyword, r.Name, strconv.Itoa(r.Rate)))
 	for _, x := range r.Samples {
-		b.WriteString(strconv.Itoa(inSteps(x)) + "\n")
+		b.WriteString(common.Line(strconv.Itoa(inSteps(x))))
 	}
 	return b.String(), api.OK
 }
@@ -30,14 +30,15 @@ func Parse(s string) (Record, int, api.Errno) {
 		return Record{}, 0, api.ErrLong
 	}
 	var r Record
-	list := lines(s)
-	for i, text := range list {
-		if !readLine(&r, i, text) {
-			return Record{}, i, api.ErrSyntax
-		}
+	count, ok := common.ReadLines(s, func(i int, next func() string) bool {
+		return readLine(&r, i, next)
+	})
+	// A text has the line 0, also without samples.
+	if !ok || count == 0 {
+		return Record{}, count, api.ErrSyntax
 	}
 	r, e := checked(r)
-	return r, failedAt(len(list), e), e
+	return r, failedAt(count, e), e
 }
 
 // failedAt returns the index of a line with an error, and 0 without one.
@@ -48,29 +49,12 @@ func failedAt(line int, e api.Errno) int {
 	return line
 }
 
-// lines splits a string behind each line feed. The empty string is one line, and a wrong one.
-func lines(s string) []string {
-	list := strings.SplitAfter(s, "\n")
-	last := len(list) - 1
-	if last > 0 && list[last] == "" {
-		return list[:last]
-	}
-	return list
-}
-
-// readLine adds what the line with an index says to a record, and reports whether the line is right.
-func readLine(r *Record, index int, text string) bool {
-	text, ended := strings.CutSuffix(text, "\n")
-	if !ended {
-		return false
-	}
-	read := readSample
+// readLine adds what the words of the line with an index say to a record, and reports whether they are right.
+func readLine(r *Record, index int, next func() string) bool {
 	if index == 0 {
-		read = readHead
+		return readHead(r, next)
 	}
-	words := common.Split(text, " ")
-	ok := read(r, words.Next)
-	return ok && words.Ended()
+	return readSample(r, next)
 }
 
 // readHead reads the words of the line 0.
