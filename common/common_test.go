@@ -145,6 +145,45 @@ func TestLines(t *testing.T) {
 	}
 }
 
+func TestParseList(t *testing.T) {
+	// A line is two words that are alike; a list has at most two of them, and none is "bad".
+	read := func(next func() string) (string, bool) {
+		first := next()
+		return first, next() == first
+	}
+	check := func(list []string) api.Errno {
+		return common.First(common.When(len(list) > 2, api.ErrMany), common.When(slices.Contains(list, "bad"), api.ErrName))
+	}
+	for _, x := range []struct {
+		text string
+		list []string
+		at   int
+		e    api.Errno
+	}{
+		{"", nil, 0, api.OK},
+		{"a a\nbc bc\n", []string{"a", "bc"}, 0, api.OK},
+		{"a a\na b\nb\n", nil, 1, api.ErrSyntax},
+		{"a a\na a", nil, 1, api.ErrSyntax},
+		{"a a \n", nil, 0, api.ErrSyntax},
+		{"a a\nbad bad\n", nil, 2, api.ErrName},
+		{"bad bad\na b\n", nil, 1, api.ErrSyntax},
+		{"a a\na a\na a\n", nil, 3, api.ErrMany},
+		{"a a\na a\n.............", nil, 0, api.ErrLong},
+		{"a a\na a\n............", nil, 2, api.ErrSyntax},
+	} {
+		list, at, e := common.ParseList(x.text, 20, read, check)
+		equal(t, "ParseList of "+x.text, slices.Equal(list, x.list), true)
+		equal(t, "line of "+x.text, at, x.at)
+		equal(t, "error of "+x.text, e, x.e)
+	}
+}
+
+func TestAbsolute(t *testing.T) {
+	for _, x := range [][2]int{{0, 0}, {1, 1}, {-1, 1}, {math.MaxInt, math.MaxInt}, {-math.MaxInt, math.MaxInt}} {
+		equal(t, "Absolute", common.Absolute(x[0]), x[1])
+	}
+}
+
 func TestGauss(t *testing.T) {
 	a, b := api.Gauss{Re: 2, Im: -3}, api.Gauss{Re: 5, Im: 7}
 	equal(t, "Plus", common.Plus(a, b), api.Gauss{Re: 7, Im: 4})

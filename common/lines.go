@@ -1,6 +1,10 @@
 package common
 
-import "strings"
+import (
+	"strings"
+
+	"woofer/api"
+)
 
 // The text of a list of lines.
 const (
@@ -36,4 +40,26 @@ func lines(text string) []string {
 // Line returns the line of words.
 func Line(words ...string) string {
 	return strings.Join(words, blank) + feed
+}
+
+// ParseList returns the list of a text with a line for each element, and 0, or an error and its line: ErrLong and 0 for a
+// text with too many bytes; ErrSyntax for the first line whose words read does not take; the error of check for the list,
+// and the number of lines.
+func ParseList[T any](text string, most int, read func(next func() string) (T, bool), check func(list []T) api.Errno) ([]T, int, api.Errno) {
+	if len(text) > most {
+		return nil, 0, api.ErrLong
+	}
+	var list []T
+	count, ok := ReadLines(text, func(_ int, next func() string) bool {
+		x, ok := read(next)
+		list = append(list, x)
+		return ok
+	})
+	if !ok {
+		return nil, count, api.ErrSyntax
+	}
+	if e := check(list); e != api.OK {
+		return nil, count, e
+	}
+	return list, 0, api.OK
 }

@@ -32,9 +32,14 @@ func Square(z api.Gauss) int {
 	return z.Re*z.Re + z.Im*z.Im
 }
 
+// Absolute returns the absolute value of an integer.
+func Absolute(x int) int {
+	return max(x, -x)
+}
+
 // Lowest returns a ratio whose denominator is above 0 in lowest terms.
 func Lowest(x api.Ratio) api.Ratio {
-	a, b := x.Den, max(x.Num, -x.Num)
+	a, b := x.Den, Absolute(x.Num)
 	for b != 0 {
 		a, b = b, a%b
 	}

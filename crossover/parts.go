@@ -68,7 +68,7 @@ func cornersOf(p Part) []network.Element {
 }
 
 func distance(a, b int) int {
-	return max(a-b, b-a)
+	return common.Absolute(a - b)
 }
 
 // Values returns the values of a part.

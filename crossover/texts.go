@@ -32,22 +32,7 @@ func lineOf(p Part) string {
 
 // Parse returns the catalogue of a text, and the index of the first line that is wrong.
 func Parse(s string) ([]Part, int, api.Errno) {
-	if len(s) > api.MaxLog {
-		return nil, 0, api.ErrLong
-	}
-	var l []Part
-	count, ok := common.ReadLines(s, func(_ int, next func() string) bool {
-		p, ok := readPart(next)
-		l = append(l, p)
-		return ok
-	})
-	if !ok {
-		return nil, count, api.ErrSyntax
-	}
-	if e := CheckCatalogue(l); e != api.OK {
-		return nil, count, e
-	}
-	return l, 0, api.OK
+	return common.ParseList(s, api.MaxLog, readPart, CheckCatalogue)
 }
 
 // readPart reads the words of a line, and reports whether they have their form.
