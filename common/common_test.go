@@ -145,6 +145,32 @@ func TestLines(t *testing.T) {
 	}
 }
 
+// A reader that takes the words up to the first empty one is not told of a blank at the end of a line.
+func TestLinesOfAllWords(t *testing.T) {
+	for _, x := range []struct {
+		text  string
+		count int
+		ok    bool
+	}{
+		{"", 0, true},
+		{"a\nb c d\n", 2, true},
+		{"a \n", 0, false},
+		{"a\nb c  \n", 1, false},
+		{"a\nb  c\n", 1, false},
+		{"a\n b\nc\n", 1, false},
+		{"a\nb ", 1, false},
+		{"a\n \n", 1, false},
+	} {
+		count, ok := common.ReadLines(x.text, func(_ int, next func() string) bool {
+			for word := next(); word != ""; word = next() {
+			}
+			return true
+		})
+		equal(t, "lines of "+x.text, count, x.count)
+		equal(t, "lines of "+x.text, ok, x.ok)
+	}
+}
+
 func TestParseList(t *testing.T) {
 	// A line is two words that are alike; a list has at most two of them, and none is "bad".
 	read := func(next func() string) (string, bool) {

@@ -12,15 +12,16 @@ const (
 	blank = " "  // between the words of a line
 )
 
-// ReadLines reads the lines of a text one after the other, as long as they are right: each has a line feed at its end,
-// and read, which is called with the index of the line, takes all of its words and reports that they are right. It
-// returns the number of lines that were right, and whether these are all lines.
+// ReadLines reads the lines of a text one after the other, as long as they are right: each has a line feed at its end and
+// no blank before it, and read, which is called with the index of the line, takes all of its words and reports that they
+// are right. It returns the number of lines that were right, and whether these are all lines.
 func ReadLines(text string, read func(i int, next func() string) bool) (int, bool) {
 	list := lines(text)
 	for i, line := range list {
 		line, ended := strings.CutSuffix(line, feed)
 		words := Split(line, blank)
-		if !ended || !read(i, words.Next) || !words.Ended() {
+		// To read, the empty word behind a blank at the end would look like the end of the line.
+		if !ended || !read(i, words.Next) || !words.Ended() || strings.HasSuffix(line, blank) {
 			return i, false
 		}
 	}
